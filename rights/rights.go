@@ -9,8 +9,8 @@ import (
 	"ringfence/api"
 )
 
-// A set is written as two words, each of half of its bits beside a mark of its
-// own, so that neither can be taken for the other, nor for a set.
+// Each word has half of a set's bits beside a mark of its own, so that neither
+// can be taken for the other.
 const (
 	halfBits = api.Bits / 2
 	half     = 1<<halfBits - 1
@@ -18,23 +18,18 @@ const (
 	highMark = 128
 )
 
-// Right tells whether n is a set of rights.
 func Right(n int) bool { return 0 <= n && n <= api.Every }
 
-// Within tells whether all rights of a are rights of b.
+// Within goes by all bits, so that what is no set is never within one.
 func Within(a, b int) bool { return a&^b == 0 }
 
-// Meet has the rights that are in both.
 func Meet(a, b int) int { return a & b }
 
-// Join has the rights that are in one of them, or in both.
 func Join(a, b int) int { return a | b }
 
-// Count tells how many rights are in n.
 func Count(n int) int { return bits.OnesCount(uint(n & api.Every)) }
 
-// Names tells the rights' names in the order of their bits. They are made anew
-// each time, since the list is the caller's to change.
+// Names makes its list anew each time, since that is the caller's to change.
 func Names() []string {
 	return []string{
 		"read", "write", "seek", "lookup", "create", "unlink",
@@ -42,7 +37,6 @@ func Names() []string {
 	}
 }
 
-// Print tells the names of the rights in n.
 func Print(n int) string {
 	var in []string
 	for bit, name := range Names() {
@@ -53,7 +47,7 @@ func Print(n int) string {
 	return strings.Join(in, ",")
 }
 
-// Parse reads what Print writes, and nothing else.
+// Parse cuts name by name, so that a long text costs no more than its first error.
 func Parse(s string) (int, api.Errno) {
 	if s == "" {
 		return 0, api.OK
@@ -76,12 +70,10 @@ func Parse(s string) (int, api.Errno) {
 	return set, api.OK
 }
 
-// Words writes n as two words.
 func Words(n int) [2]int {
 	return [2]int{n&half | lowMark, n>>halfBits&half | highMark}
 }
 
-// FromWords reads what Words writes, and nothing else.
 func FromWords(w [2]int) (int, api.Errno) {
 	if w[0]&^half != lowMark || w[1]&^half != highMark {
 		return 0, api.ErrForm

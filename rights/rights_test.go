@@ -18,7 +18,6 @@ var bitsInOrder = []int{
 	api.List, api.Stat, api.Send, api.Recv, api.Wait, api.Kill,
 }
 
-// some sets, with each right alone, none, all, and mixtures.
 func someSets() []int {
 	l := []int{0, api.Every, 1365, 2730, 63, 4032, 2049, 64 | 32, 3, 4094, 2047}
 	return append(l, bitsInOrder...)
